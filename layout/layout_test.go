@@ -1,0 +1,103 @@
+package layout_test
+
+import (
+	"bytes"
+	"math"
+	"slices"
+	"testing"
+
+	"rubricator/layout"
+)
+
+// cell lets whatever bytes be an entry, in new memory.
+func cell(b []byte) ([]byte, bool) { return slices.Clone(b), true }
+
+func same(b []byte) []byte { return b }
+
+func wantCells(t *testing.T, what string, kind byte, b []byte, want [][]byte, ok bool) {
+	t.Helper()
+	l, is := layout.Get(kind, b, cell)
+	if is != ok || !slices.EqualFunc(l, want, bytes.Equal) || !ok && l != nil {
+		t.Errorf("%s: Get tells %t, %v, want %v", what, is, l, want)
+	}
+}
+
+func TestRightSize(t *testing.T) {
+	for _, size := range []int{512, 513, 640, 4095, 4096} {
+		if !layout.RightSize(size) {
+			t.Errorf("%d isn't right", size)
+		}
+	}
+	for _, size := range []int{511, 4097, 0, -1, -512, math.MinInt, math.MaxInt} {
+		if layout.RightSize(size) {
+			t.Errorf("%d is right", size)
+		}
+	}
+}
+
+func TestRightKey(t *testing.T) {
+	for n := range 300 {
+		if got := layout.RightKey(make([]byte, n)); got != (n >= 1 && n <= 96) {
+			t.Errorf("a key of %d bytes: %t", n, got)
+		}
+	}
+	if layout.RightKey(nil) {
+		t.Error("no key is right")
+	}
+}
+
+func TestPutAndGet(t *testing.T) {
+	l := [][]byte{{1, 2, 3}, {}, {4}}
+	b := layout.Put(7, l, same, 512)
+	want := make([]byte, 512)
+	copy(want, []byte{7, 0, 0, 3, 1, 253, 1, 253, 1, 252})
+	copy(want[508:], []byte{4, 1, 2, 3})
+	if !bytes.Equal(b, want) {
+		t.Errorf("Put: got %v", b)
+	}
+	wantCells(t, "the page", 7, b, l, true)
+	wantCells(t, "another kind", 8, b, nil, false)
+	wantCells(t, "no cell", 7, layout.Put(7, nil, same, 512), nil, true)
+	for n := range 6 {
+		wantCells(t, "a head alone, a whole one or not", 7, []byte{7, 0, 0, 0, 0}[:n], nil, n >= 4)
+	}
+}
+
+func TestGetOfOthers(t *testing.T) {
+	for _, x := range []struct {
+		what string
+		at   int
+		with []byte
+	}{
+		{"another byte behind the first one", 1, []byte{1}},
+		{"a cell more", 3, []byte{3}},
+		{"a cell less", 3, []byte{1}},
+		{"a place behind the end", 4, []byte{2, 1}},
+		{"a place behind the one ahead", 6, []byte{1, 254}},
+		{"a byte behind the places", 8, []byte{1}},
+		{"a byte in the midst", 100, []byte{1}},
+		{"a byte ahead of the cells", 507, []byte{1}},
+	} {
+		b := layout.Put(7, [][]byte{{1, 2, 3}, {5}}, same, 512)
+		copy(b[x.at:], x.with)
+		wantCells(t, x.what, 7, b, nil, false)
+	}
+}
+
+func TestGetOfACellThatIsNone(t *testing.T) {
+	b := layout.Put(7, [][]byte{{1}, {2}, {3}}, same, 512)
+	for bad := range byte(5) {
+		l, ok := layout.Get(7, b, func(c []byte) (byte, bool) { return c[0], c[0] != bad })
+		if is := bad < 1 || bad > 3; ok != is || is && !slices.Equal(l, []byte{1, 2, 3}) || !is && l != nil {
+			t.Errorf("without %d: %t, %v", bad, ok, l)
+		}
+	}
+}
+
+// A cell may reach up to the places, and not into them.
+func TestGetOfAFullPage(t *testing.T) {
+	b := layout.Put(7, [][]byte{make([]byte, 506)}, same, 512)
+	wantCells(t, "a full page", 7, b, [][]byte{make([]byte, 506)}, true)
+	b[5]--
+	wantCells(t, "a cell that begins in its place", 7, b, nil, false)
+}
