@@ -1,4 +1,4 @@
-// Package layout is what pages of entries and pages that lead to pages have alike: which sizes and keys may be, and how cells are laid.
+// Package layout is what kinds of pages have alike: which sizes and keys may be, a page's first bytes, and how cells are laid.
 package layout
 
 import (
@@ -12,9 +12,9 @@ const (
 	none = 0 // the byte behind the first one
 
 	kindBytes  = 1 // of a page's first byte, and of the one behind it
-	countBytes = 2 // of how many cells there are
+	countBytes = 2 // of how many things there are
 
-	// Head is how many bytes stand ahead of a page's places.
+	// Head is how many bytes a page's first ones are: its kind, and how many things it has.
 	Head = 2*kindBytes + countBytes
 	// Place is how many bytes tell where a cell begins.
 	Place = 2
@@ -26,13 +26,34 @@ func RightSize(size int) bool { return size >= api.MinPage && size <= api.MaxPag
 // RightKey tells whether a key may be an entry's.
 func RightKey(key []byte) bool { return len(key) >= 1 && len(key) <= api.MaxKey }
 
+// AreNoughts tells whether bytes are 0, each of them.
+func AreNoughts(b []byte) bool {
+	return !slices.ContainsFunc(b, func(c byte) bool { return c != 0 })
+}
+
+// WriteHead puts the first bytes of a page of a kind, of so many things; what stands behind them is put behind.
+func WriteHead(kind byte, n int) *octet.Writer {
+	w := octet.NewWriter()
+	w.Num(uint64(kind), kindBytes)
+	w.Num(none, kindBytes)
+	w.Num(uint64(n), countBytes)
+	return w
+}
+
+// ReadHead reads how many things a page has, if its first bytes are those of a kind; what stands behind them is left to be read.
+func ReadHead(kind byte, b []byte) (*octet.Reader, int, bool) {
+	r := octet.NewReader(b)
+	first, second, n := r.Num(kindBytes), r.Num(kindBytes), r.Num(countBytes)
+	if r.Err() != api.OK || first != uint64(kind) || second != none {
+		return nil, 0, false
+	}
+	return r, int(n), true
+}
+
 // Put is a page of a kind, of entries whose cells all go into it.
 func Put[T any](kind byte, l []T, cellOf func(T) []byte, size int) []byte {
 	b := make([]byte, size)
-	head := octet.NewWriter()
-	head.Num(uint64(kind), kindBytes)
-	head.Num(none, kindBytes)
-	head.Num(uint64(len(l)), countBytes)
+	head := WriteHead(kind, len(l))
 	end := size
 	for _, x := range l {
 		cell := cellOf(x)
@@ -46,12 +67,12 @@ func Put[T any](kind byte, l []T, cellOf func(T) []byte, size int) []byte {
 
 // Get are the entries of a page of a kind, if it is laid as one is, and each cell is an entry's.
 func Get[T any](kind byte, b []byte, entryOf func(cell []byte) (T, bool)) ([]T, bool) {
-	r := octet.NewReader(b)
-	if r.Num(kindBytes) != uint64(kind) || r.Num(kindBytes) != none {
+	r, n, ok := ReadHead(kind, b)
+	if !ok {
 		return nil, false
 	}
 	var l []T
-	n, end := int(r.Num(countBytes)), len(b)
+	end := len(b)
 	for range n {
 		at := int(r.Num(Place))
 		if at > end {
@@ -66,13 +87,8 @@ func Get[T any](kind byte, b []byte, entryOf func(cell []byte) (T, bool)) ([]T, 
 	}
 	// An error here too, if there are fewer places than told, or a cell begins among them.
 	free := r.Raw(end - Head - n*Place)
-	if r.Err() != api.OK || !areNoughts(free) {
+	if r.Err() != api.OK || !AreNoughts(free) {
 		return nil, false
 	}
 	return l, true
-}
-
-// areNoughts tells whether bytes are 0, each of them.
-func areNoughts(b []byte) bool {
-	return !slices.ContainsFunc(b, func(c byte) bool { return c != 0 })
 }

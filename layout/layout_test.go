@@ -46,6 +46,66 @@ func TestRightKey(t *testing.T) {
 	}
 }
 
+func TestAreNoughts(t *testing.T) {
+	if !layout.AreNoughts(nil) || !layout.AreNoughts([]byte{}) {
+		t.Error("no bytes aren't noughts")
+	}
+	for n := 1; n < 20; n++ {
+		b := make([]byte, n)
+		if !layout.AreNoughts(b) {
+			t.Errorf("%d noughts aren't", n)
+		}
+		for i := range b {
+			for _, c := range []byte{1, 128, 255} {
+				b[i] = c
+				if layout.AreNoughts(b) {
+					t.Errorf("%v are noughts", b)
+				}
+			}
+			b[i] = 0
+		}
+	}
+}
+
+func TestWriteHead(t *testing.T) {
+	for _, x := range []struct {
+		kind byte
+		n    int
+		want []byte
+	}{{1, 0, []byte{1, 0, 0, 0}}, {3, 5, []byte{3, 0, 0, 5}}, {255, 258, []byte{255, 0, 1, 2}}, {4, 65535, []byte{4, 0, 255, 255}}} {
+		w := layout.WriteHead(x.kind, x.n)
+		if !bytes.Equal(w.Out(), x.want) || len(x.want) != layout.Head {
+			t.Errorf("WriteHead of %d, %d: %v", x.kind, x.n, w.Out())
+		}
+		w.Num(7, 1)
+		if !bytes.Equal(w.Out(), append(x.want, 7)) {
+			t.Errorf("what is put behind: %v", w.Out())
+		}
+	}
+}
+
+func TestReadHead(t *testing.T) {
+	b := []byte{3, 0, 1, 2, 7, 8}
+	for n := 4; n <= 6; n++ {
+		r, many, ok := layout.ReadHead(3, b[:n])
+		if !ok || many != 258 || !bytes.Equal(r.Raw(n-4), b[4:n]) || r.Left() != 0 {
+			t.Errorf("ReadHead of %v: %t, %d", b[:n], ok, many)
+		}
+	}
+	for n := range 4 {
+		for _, kind := range []byte{0, 3} {
+			if r, many, ok := layout.ReadHead(kind, b[:n]); ok || r != nil || many != 0 {
+				t.Errorf("ReadHead of %v: %t, %d", b[:n], ok, many)
+			}
+		}
+	}
+	for _, c := range [][]byte{{2, 0, 1, 2}, {0, 0, 1, 2}, {3, 1, 1, 2}, {3, 255, 0, 0}, {131, 0, 0, 1}} {
+		if r, many, ok := layout.ReadHead(3, c); ok || r != nil || many != 0 {
+			t.Errorf("ReadHead of %v: %t, %d", c, ok, many)
+		}
+	}
+}
+
 func TestPutAndGet(t *testing.T) {
 	l := [][]byte{{1, 2, 3}, {}, {4}}
 	b := layout.Put(7, l, same, 512)
