@@ -1,4 +1,4 @@
-// Package layout is what kinds of pages have alike: which sizes and keys may be, a page's first bytes, and how cells are laid.
+// Package layout is what kinds of pages have alike: which sizes and keys may be, how many pages things need, a page's first bytes, and how cells are laid.
 package layout
 
 import (
@@ -13,9 +13,12 @@ const (
 
 	kindBytes  = 1 // of a page's first byte, and of the one behind it
 	countBytes = 2 // of how many things there are
+	nextBytes  = 4 // of the next page
 
 	// Head is how many bytes a page's first ones are: its kind, and how many things it has.
 	Head = 2*kindBytes + countBytes
+	// Linked is how many bytes the first ones of a page are that tells its next one, too.
+	Linked = Head + nextBytes
 	// Place is how many bytes tell where a cell begins.
 	Place = 2
 )
@@ -29,6 +32,15 @@ func RightKey(key []byte) bool { return len(key) >= 1 && len(key) <= api.MaxKey 
 // AreNoughts tells whether bytes are 0, each of them.
 func AreNoughts(b []byte) bool {
 	return !slices.ContainsFunc(b, func(c byte) bool { return c != 0 })
+}
+
+// Many is how many pages so many things need, of which each bears so many, one at least.
+func Many(n, most int) int {
+	if n < 1 {
+		return 0
+	}
+	// The last page is counted apart: rounded up by a sum the greatest numbers would wrap round.
+	return (n-1)/most + 1
 }
 
 // WriteHead puts the first bytes of a page of a kind, of so many things; what stands behind them is put behind.
@@ -48,6 +60,23 @@ func ReadHead(kind byte, b []byte) (*octet.Reader, int, bool) {
 		return nil, 0, false
 	}
 	return r, int(n), true
+}
+
+// WriteLinked puts the first bytes of a page of a kind, of so many things, with a next page (0: none).
+func WriteLinked(kind byte, n int, next api.Page) *octet.Writer {
+	w := WriteHead(kind, n)
+	w.Num(uint64(next), nextBytes)
+	return w
+}
+
+// ReadLinked reads how many things a page has, and the next page, if its first bytes are those of a kind.
+func ReadLinked(kind byte, b []byte) (*octet.Reader, int, api.Page, bool) {
+	r, n, ok := ReadHead(kind, b)
+	if !ok || len(b) < Linked {
+		return nil, 0, 0, false
+	}
+	next := r.Num(nextBytes)
+	return r, n, api.Page(next), true
 }
 
 // Put is a page of a kind, of entries whose cells all go into it.

@@ -6,6 +6,7 @@ import (
 	"slices"
 	"testing"
 
+	"rubricator/api"
 	"rubricator/layout"
 )
 
@@ -103,6 +104,72 @@ func TestReadHead(t *testing.T) {
 		if r, many, ok := layout.ReadHead(3, c); ok || r != nil || many != 0 {
 			t.Errorf("ReadHead of %v: %t, %d", c, ok, many)
 		}
+	}
+}
+
+func TestMany(t *testing.T) {
+	for _, most := range []int{1, 2, 42, 504, 4088} {
+		for k := range 5 {
+			for n, want := range map[int]int{k * most: k, k*most + 1: k + 1, (k + 1) * most: k + 1} {
+				if got := layout.Many(n, most); got != want {
+					t.Errorf("Many of %d, %d each: got %d, want %d", n, most, got, want)
+				}
+			}
+		}
+		for _, n := range []int{0, -1, -most, -most - 1, math.MinInt} {
+			if got := layout.Many(n, most); got != 0 {
+				t.Errorf("Many of %d, %d each: got %d", n, most, got)
+			}
+		}
+	}
+	if got := layout.Many(math.MaxInt, 2); got != 1<<62 {
+		t.Errorf("Many of the most: got %d", got)
+	}
+}
+
+func TestWriteLinked(t *testing.T) {
+	for _, x := range []struct {
+		kind byte
+		n    int
+		next api.Page
+		want []byte
+	}{
+		{3, 5, 0, []byte{3, 0, 0, 5, 0, 0, 0, 0}},
+		{4, 258, 0x01020304, []byte{4, 0, 1, 2, 1, 2, 3, 4}},
+		{255, 65535, math.MaxUint32, []byte{255, 0, 255, 255, 255, 255, 255, 255}},
+	} {
+		w := layout.WriteLinked(x.kind, x.n, x.next)
+		if !bytes.Equal(w.Out(), x.want) || len(x.want) != layout.Linked {
+			t.Errorf("WriteLinked of %d, %d, %d: %v", x.kind, x.n, x.next, w.Out())
+		}
+		w.Num(7, 1)
+		if !bytes.Equal(w.Out(), append(x.want, 7)) {
+			t.Errorf("what is put behind: %v", w.Out())
+		}
+	}
+}
+
+func TestReadLinked(t *testing.T) {
+	b := []byte{3, 0, 1, 2, 1, 2, 3, 4, 7, 8}
+	for n := 8; n <= 10; n++ {
+		r, many, next, ok := layout.ReadLinked(3, b[:n])
+		if !ok || many != 258 || next != 0x01020304 || !bytes.Equal(r.Raw(n-8), b[8:n]) || r.Left() != 0 {
+			t.Errorf("ReadLinked of %v: %t, %d, %d", b[:n], ok, many, next)
+		}
+	}
+	wantNone := func(kind byte, b []byte) {
+		t.Helper()
+		if r, many, next, ok := layout.ReadLinked(kind, b); ok || r != nil || many != 0 || next != 0 {
+			t.Errorf("ReadLinked of %v: %t, %d, %d", b, ok, many, next)
+		}
+	}
+	for n := range 8 {
+		wantNone(3, b[:n])
+		wantNone(0, b[:n])
+	}
+	wantNone(3, nil)
+	for _, first := range [][]byte{{2, 0}, {0, 0}, {3, 1}, {3, 255}, {131, 0}} {
+		wantNone(3, append(first, b[2:]...))
 	}
 }
 
