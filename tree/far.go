@@ -7,6 +7,7 @@ import (
 	"rubricator/api"
 	"rubricator/chain"
 	"rubricator/leaf"
+	"rubricator/node"
 	"rubricator/pager"
 )
 
@@ -21,7 +22,7 @@ func readFar(s pager.Source, long int, first api.Page) (far, api.Errno) {
 	var x far
 	var parts [][]byte
 	for p := first; p != none; {
-		b, e := readPage(s, p)
+		b, e := node.Bytes(s, p)
 		if e != api.OK {
 			return far{}, e
 		}
